@@ -243,7 +243,9 @@ func TestNoClasses(t *testing.T) {
 	admit(t, a, 2)
 	ask(t, a, 1, []int{1})
 	give(t, a, 1, nil)
-	is(t, "none", told(a.Avail(), a.Held(1), a.Safe(), a.Stuck()), []int{}, []int{}, true, []int{})
+	is(t, "none", told(a.Avail(), a.Held(1), a.Safe(), a.Stuck(), a.Pids()), []int{}, []int{}, true, []int{}, []int{1, 2})
+	a.Leave(1)
+	is(t, "one has left", told(a.Pids()), []int{2})
 }
 
 // next is the next number of a row that looks like chance, below n.

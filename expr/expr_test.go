@@ -199,6 +199,10 @@ func TestAnything(t *testing.T) {
 	}
 	Parse(long, 0, api.Least)
 	Parse(long[:4097], 0, api.Least)
+	longest := tokens(t, "-1"+strings.Repeat("+1", 2047))
+	if _, n, f := Parse(longest, 0, 1); len(longest) != 4097 || n != 4096 || f != (api.Fault{}) {
+		t.Error(len(longest), n, f)
+	}
 	if _, _, f := Parse([]api.Token{{Kind: api.KNum, Num: 4}}, 0, 1); f != (api.Fault{}) {
 		t.Error(f)
 	}

@@ -171,6 +171,10 @@ func TestFindingsOfBranches(t *testing.T) {
 	found(t, procs, stmts,
 		Finding{at("f() claims q 9", 1), 0, 2, 0}, Finding{at("f() claims q 9", 1), 1, -inf, 9},
 		Finding{at("f() claims r 1", 1), 0, 2, 1}, Finding{at("f() claims r 6", 1), 0, 2, 6}, Finding{at("f() coend", 1), 0, 2, 0})
+	procs = "procedure f(); begin request r 1; release r 1 end; "
+	stmts = "if true then skip else cobegin f() coend fi"
+	src = "program p; resource r 5; resource q 3; shared v; var x; " + procs + " begin " + stmts + " end."
+	found(t, procs, stmts, Finding{at("f() coend", 1), 0, 1, 0})
 	// Of a branch the top is as of a call: whatever, of a procedure that reaches itself.
 	procs = "procedure f(); begin request r 1; release r 1; if true then f() fi end; "
 	src = "program p; resource r 5; resource q 3; shared v; var x; " + procs + " begin cobegin f() claims r 5 coend end."

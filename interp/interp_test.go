@@ -119,6 +119,8 @@ func TestTraps(t *testing.T) {
 	traps(t, "x := a[-1]", 3, api.TIndex)
 	traps(t, "a[3] := 1 / 0", 4, api.TZero)
 	traps(t, "a[3] := 1", 3, api.TIndex)
+	traps(t, "region w do w[2] := 1 od", 4, api.TIndex)
+	traps(t, "region w do x := w[2] od", 3, api.TIndex)
 	traps(t, "read x", 1, api.TInput)
 	traps(t, "read a[3]", 2, api.TInput)
 	traps(t, "request r 3", 1, api.TClaim)
@@ -143,6 +145,16 @@ func TestBegins(t *testing.T) {
 	i = made(t, body("skip"), true)
 	if !slices.Equal(i.Vars(), make([]int, 7)) || i.Kernel().Alloc().Avail()[0] != 2 {
 		t.Error(i.Vars())
+	}
+}
+
+// P31.1: variables, of an array all elements.
+func TestVars(t *testing.T) {
+	for src, n := range map[string]int{"": 0, "var x;": 1, "var a[64];": 64, "shared v; var a[1]; var y; shared w[64]; var x;": 68} {
+		i := made(t, "program p; "+src+" begin skip end.", true)
+		if len(i.Vars()) != n {
+			t.Errorf("%q: %v", src, i.Vars())
+		}
 	}
 }
 

@@ -187,7 +187,11 @@ func TestForkAndJoin(t *testing.T) {
 	if !slices.Equal(m.Ready(), []int{2}) || !slices.Equal(m.Blocked(), []int{1}) || m.At(1) != 4 {
 		t.Error(m.Ready(), m.Blocked(), m.At(1))
 	}
-	steps(m, 7)
+	steps(m, 5)
+	if m.At(2) != -1 || m.At(1) != 4 || m.Status() != api.StRuns {
+		t.Error("behind the child's end:", m.At(2), m.At(1))
+	}
+	steps(m, 2)
 	trace(t, m, ev(4, api.EvBlock, 1, api.WJoin, 0), ev(8, api.EvWrite, 2, 5, 0), ev(9, api.EvEnd, 2, 0, 0), ev(10, api.EvWrite, 1, 9, 0), ev(11, api.EvEnd, 1, 0, 0), stop(11, api.StDone))
 }
 
@@ -232,6 +236,10 @@ func TestForkOfTrapped(t *testing.T) {
 	p.Forks[0].Claim = 3
 	m := made(t, p, true, api.Limits{Procs: 2, Stack: 8, Store: 4 + 16})
 	steps(m, 30)
+	// Where there is no room for it, that goes ahead of what it claims.
+	small := made(t, p, true, api.Limits{Procs: 2, Stack: 3, Store: 4 + 16})
+	steps(small, 9)
+	trace(t, small, ev(2, api.EvTrap, 1, int(api.TStack), 0), stop(2, api.StLimit))
 	if m.Status() != api.StRuns || len(m.Trace()) != 10 || m.Trace()[9] != ev(29, api.EvTrap, 11, int(api.TClaim), 0) || m.At(11) != -1 {
 		t.Error(m.Status(), m.Trace())
 	}

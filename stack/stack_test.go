@@ -34,7 +34,8 @@ func TestNew(t *testing.T) {
 			t.Errorf("New%v is a stack", r)
 		}
 	}
-	for _, r := range [][2]int{{0, 10}, {9, 1}, {10, 0}, {0, 0}, {4, 3}} {
+	// No words at all are words of any store, wherever they begin.
+	for _, r := range [][2]int{{0, 10}, {9, 1}, {10, 0}, {0, 0}, {4, 3}, {11, 0}, {api.Most, 0}} {
 		if k := New(s, r[0], r[1]); k == nil || k.Len() != 0 || k.Frames() != 0 || k.Operands() != 0 {
 			t.Errorf("New%v is no empty stack", r)
 		}
@@ -241,6 +242,10 @@ func TestKeepsToItsWords(t *testing.T) {
 	for range 5 {
 		k.Push(4)
 	}
+	k = New(s, 4, 4)
+	k.Push(1)
+	k.Push(1)
+	k.Call(2, 2, 2)
 	w := s.Words()
 	if !slices.Equal(w[:4], []int{-9, -9, -9, -9}) || !slices.Equal(w[8:], []int{-9, -9, -9, -9}) {
 		t.Error(w)

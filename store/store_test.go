@@ -48,8 +48,10 @@ func TestPutAndGet(t *testing.T) {
 	if !slices.Equal(s.Words(), []int{6, 0, api.Least}) {
 		t.Error(s.Words())
 	}
-	if x, ok := s.Get(2); x != api.Least || !ok {
-		t.Error(x, ok)
+	for at, want := range []int{6, 0, api.Least} {
+		if x, ok := s.Get(at); x != want || !ok {
+			t.Errorf("Get(%d): %d, %v", at, x, ok)
+		}
 	}
 }
 

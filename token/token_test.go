@@ -49,6 +49,7 @@ func TestAll(t *testing.T) {
 	all(t, " \t\n\r x \n", "n5x e8")
 	all(t, "begin end.", "w0begin w6end s9. e10")
 	all(t, "beginend begin1 dob", "n0beginend n9begin1 n16dob e19")
+	all(t, "z9 a0z", "n0z9 n3a0z e6")
 	all(t, "a1b2 1a2", "n0a1b2 #51 n6a2 e8")
 	all(t, "abcdefghijkl", "n0abcdefghijkl e12")
 	all(t, "resource semaphore procedure", "w0resource w9semaphore w19procedure e28")

@@ -72,6 +72,25 @@ func TestNames(t *testing.T) {
 	in(t, api.EKind, "write |g", "write |h", "write |q")
 }
 
+// P27.2: an array of one element is an array; each sign makes a truth.
+func TestArraysOfOneAndSigns(t *testing.T) {
+	one := "program p; var one[1]; shared so[1];" + strings.Repeat(" ", len(head)) + "begin "
+	check(t, one+"one[0] := one[0]; region so when so[0] > 0 do skip od end.", api.OK)
+	check(t, one+"|one := 1 end.", api.EKind)
+	check(t, one+"write |one end.", api.EKind)
+	for _, sign := range []string{"=", "<>", "<", "<=", ">", ">="} {
+		body(t, api.OK, "if x "+sign+" 1 then skip fi")
+		body(t, api.EType, "x := x |"+sign+" 1", "if x "+sign+" |true then skip fi")
+	}
+	for _, sign := range []string{"+", "-", "*", "/", "%"} {
+		body(t, api.OK, "x := x "+sign+" 1")
+		body(t, api.EType, "if x |"+sign+" 1 then skip fi", "x := x "+sign+" |true")
+	}
+	for _, word := range []string{"and", "or"} {
+		body(t, api.EType, "x := true |"+word+" true", "if true "+word+" |1 then skip fi")
+	}
+}
+
 // P27.2: within a condition.
 func TestConditions(t *testing.T) {
 	body(t, api.EWait, "region v when |x > 0 do skip od", "region v when v > |x do skip od", "region v when |a[1] > 0 do skip od", "region w do region v when |w > 0 do skip od od", "region sa when sa[|x] > 0 do skip od", "region w do region v when v > |w do skip od od")

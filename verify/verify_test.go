@@ -110,7 +110,7 @@ func TestTables(t *testing.T) {
 		func(p *api.Program) { p.Procs[1].Locals = 8 }, func(p *api.Program) { p.Procs[2] = api.Entry{At: 9, Params: 4, Locals: 4} },
 		func(p *api.Program) { p.Vars[0] = api.Cell{Base: api.MaxStore - 64, Size: 64} }, func(p *api.Program) { p.Vars[0] = api.Cell{Base: api.MaxStore - 1} },
 		func(p *api.Program) { p.Regions = 16 }, func(p *api.Program) { p.Regions = 0 }, func(p *api.Program) { p.Semas[0] = 0 }, func(p *api.Program) { p.Semas[0] = 1000 },
-		func(p *api.Program) { p.Totals[0] = 1000 }, func(p *api.Program) { p.Vectors[0][0] = 1000 }, func(p *api.Program) { p.Claim = 1 },
+		func(p *api.Program) { p.Totals[0] = 1000 }, func(p *api.Program) { p.Totals[0] = 1 }, func(p *api.Program) { p.Vectors[0][0] = 1000 }, func(p *api.Program) { p.Claim = 1 },
 	} {
 		check(t, "just may be", turned(f), 0, api.OK)
 	}
@@ -192,14 +192,14 @@ func TestDepths(t *testing.T) {
 		{push, {Op: api.JumpZero, A: 3}, push, nop, ret},
 		{push, push, {Op: api.JumpZero, A: 0}, {Op: api.Write}, ret},
 		{push, push, {Op: api.Await, A: 0, B: 0}, {Op: api.Write}, ret},
-		{push, {Op: api.Jump, A: 0}},
+		{push, {Op: api.Jump, A: 0}}, {push, {Op: api.Await, A: 0, B: 0}, {Op: api.Write}, ret}, {push, {Op: api.JumpZero, A: 0}, {Op: api.Write}, ret},
 	}
 	for _, l := range wrong {
 		check(t, "depth", body(l...), 0, api.VDepth)
 	}
 	right := [][]api.Instr{
 		{push, push, {Op: api.Call, A: 1}, ret}, {push, push, {Op: api.Fork, A: 0}, {Op: api.Join}, ret}, {{Op: api.Jump, A: 0}}, {push, {Op: api.Await, A: 0, B: 0}, ret},
-		{{Op: api.Jump, A: 3}, {Op: api.Add}, {Op: api.Write}, ret}, {push, {Op: api.LoadAt, A: 0}, {Op: api.Write}, ret}, {push, {Op: api.JumpZero, A: 0}, ret},
+		{{Op: api.Jump, A: 3}, {Op: api.Add}, {Op: api.Write}, ret}, {push, {Op: api.LoadAt, A: 0}, {Op: api.Write}, ret}, {push, {Op: api.JumpZero, A: 0}, ret}, {push, {Op: api.Await, A: 0, B: 2}, ret}, {push, {Op: api.JumpZero, A: 2}, ret},
 	}
 	for _, l := range right {
 		check(t, "depth", body(l...), 0, api.OK)

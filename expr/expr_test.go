@@ -193,7 +193,7 @@ func TestAnything(t *testing.T) {
 			}
 		}
 	}
-	long := make([]api.Token, 3000000)
+	long := make([]api.Token, 300000)
 	for i := range long {
 		long[i] = kinds[0]
 	}

@@ -9,6 +9,7 @@ import (
 	"go/token"
 	"os"
 	"path/filepath"
+	"slices"
 	"strconv"
 	"strings"
 	"testing"
@@ -20,7 +21,7 @@ const lines = 60
 // library: what the program may import, besides its own packages.
 const library = " bytes cmp container/heap errors iter maps math math/bits slices sort strconv strings sync sync/atomic unicode unicode/utf8 "
 
-// packages are the program's own: what else is laid beside them is not looked at.
+// packages are the program's own, by their layers: what else is laid beside them is not looked at.
 const packages = "arith store segs stack instr code verify procs pick join sema region units bank holt alloc event kernel task machine " +
 	"token tree expr parse pretty scope typing span hold gen interp audit script fair drive sample"
 
@@ -63,11 +64,14 @@ func TestRules(t *testing.T) {
 	}
 }
 
-// imports: of the library only what the language lists; of that package nothing that starts by itself.
+// imports: of the library only what the language lists; of the program only api and layers above in the map.
 func imports(t *testing.T, name string, file *ast.File) {
+	layers := strings.Fields("api " + packages)
+	own := slices.Index(layers, filepath.Base(filepath.Dir(name)))
 	for _, i := range file.Imports {
 		path, _ := strconv.Unquote(i.Path.Value)
-		if !strings.HasPrefix(path, "signalbox/") && !strings.Contains(library, " "+path+" ") {
+		layer, of := strings.CutPrefix(path, "signalbox/")
+		if of && !slices.Contains(layers[:own], layer) || !of && !strings.Contains(library, " "+path+" ") {
 			t.Errorf("%s imports %s", name, path)
 		}
 	}

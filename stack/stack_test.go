@@ -29,19 +29,23 @@ func made(t *testing.T, size int) *Stack {
 // P4.1: which words may be a stack's.
 func TestNew(t *testing.T) {
 	s := words(t, 10)
-	for _, r := range [][2]int{{-1, 2}, {2, -1}, {9, 2}, {10, 1}, {0, 11}, {api.Most, 1}, {1, api.Most}, {api.Most, api.Most}, {api.Least, api.Least}, {2, api.Least}} {
+	for _, r := range [][2]int{{-1, 2}, {2, -1}, {9, 2}, {10, 1}, {0, 11}, {11, 0}, {11, 1}, {12, 0}, {api.Most, 0}, {api.Most, 1}, {1, api.Most}, {api.Most, api.Most}, {api.Least, api.Least}, {2, api.Least}} {
 		if New(s, r[0], r[1]) != nil {
 			t.Errorf("New%v is a stack", r)
 		}
 	}
-	// No words at all are words of any store, wherever they begin.
-	for _, r := range [][2]int{{0, 10}, {9, 1}, {10, 0}, {0, 0}, {4, 3}, {11, 0}, {api.Most, 0}} {
+	// No words at all begin at a word too, or at the store's end.
+	for _, r := range [][2]int{{0, 10}, {9, 1}, {10, 0}, {9, 0}, {0, 0}, {4, 3}} {
 		if k := New(s, r[0], r[1]); k == nil || k.Len() != 0 || k.Frames() != 0 || k.Operands() != 0 {
 			t.Errorf("New%v is no empty stack", r)
 		}
 	}
 	if New(nil, 0, 0) != nil {
 		t.Error("a stack of no store")
+	}
+	none := words(t, 0)
+	if New(none, 0, 0) == nil || New(none, 1, 0) != nil || New(none, 0, 1) != nil {
+		t.Error("a store of no words has a stack of no words, at 0 alone")
 	}
 }
 
